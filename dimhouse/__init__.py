@@ -1,0 +1,1 @@
+"""Dimhouse: programs whose current may fail at any step."""
