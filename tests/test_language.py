@@ -116,6 +116,34 @@ class Language(unittest.TestCase):
         for name, node in self.each(ast.arg):
             self.assertFalse(hasattr(builtins, node.arg) or node.arg.startswith("_"), (name, node.lineno, node.arg))
 
+    def test_locals_are_not_called_like_imports_or_classes(self):
+        for name, tree in self.trees.items():
+            taken = [one.name for node in tree.body if isinstance(node, ast.ImportFrom) for one in node.names]
+            taken += [node.name for node in tree.body if isinstance(node, ast.ClassDef)]
+            for node in ast.walk(tree):
+                if isinstance(node, ast.arg):
+                    self.assertNotIn(node.arg, taken, (name, node.lineno))
+                elif isinstance(node, ast.Name) and isinstance(node.ctx, ast.Store):
+                    self.assertNotIn(node.id, taken, (name, node.lineno))
+
+    def test_no_two_files_draw_from_one_another(self):
+        drawn = {name: [node.module.split(".")[1] + ".py" for node in tree.body if isinstance(node, ast.ImportFrom)]
+                 for name, tree in self.trees.items()}
+        left = dict(drawn)
+        while left:
+            free = [name for name, files_drawn in left.items() if not any(one in left for one in files_drawn)]
+            self.assertTrue(free, left)
+            left = {name: files_drawn for name, files_drawn in left.items() if name not in free}
+
+    def test_sets_stand_within_sorted_or_len_or_beside_in(self):
+        made = {id(node) for name, node in self.each(ast.Call) if isinstance(node.func, ast.Name) and node.func.id == "set"}
+        for name, node in self.each(ast.Call):
+            if isinstance(node.func, ast.Name) and node.func.id in ("sorted", "len") and not node.keywords:
+                made -= {id(one) for one in ast.walk(node.args[0])}
+        for name, node in self.each(ast.Compare):
+            made -= {id(one) for one in [node.left] + node.comparators}
+        self.assertFalse(made)
+
     def test_methods_and_values(self):
         methods = [one.name for name, node in self.each(ast.ClassDef) for one in node.body if hasattr(one, "name")]
         values = [node.attr for name, node in self.each(ast.Attribute) if isinstance(node.ctx, ast.Store)]
