@@ -4,7 +4,7 @@ import random
 import unittest
 
 from dimhouse.needs import gives, needed, reads
-from programs import BOXES, any_program, led, program_of, told
+from programs import BOXES, any_program, needed_there, program_of
 
 # A row, the boxes that it reads, the box that it sets.
 ROWS = (
@@ -46,22 +46,6 @@ class Rows(unittest.TestCase):
             self.assertEqual(reads(row), boxes, row)
             first.clear()
             self.assertEqual(reads(row), boxes, row)
-
-
-def needed_there(rows, number, box):
-    """Whether some way on from the row reads the box ahead of setting it, looked for row by row."""
-    seen, open_rows = set(), [number]
-    while open_rows:
-        here = open_rows.pop()
-        if here in seen:
-            continue
-        seen.add(here)
-        atoms, is_set = told(rows[here])
-        if box in atoms:
-            return True
-        if is_set != box:
-            open_rows.extend(led(here, rows[here]))
-    return False
 
 
 class Needed(unittest.TestCase):
