@@ -1,5 +1,6 @@
 """Programs and cuttings for the tests, and what holds of them, told another way than the program tells it."""
 
+from dimhouse.texts import read
 from dimhouse.words import WIDE
 
 SIGNS = ("+", "-", "*", "<", "=", "&", "|", "^")
@@ -20,6 +21,11 @@ KINDS = (
 def program_of(*rows):
     """A program of these rows, with cells c, d, m and shelves f, g, h."""
     return (CELLS, SHELVES, rows)
+
+
+def rows_of(text):
+    """The program that the text tells, its rows parted by " / "."""
+    return read(text.replace(" / ", "\n"))
 
 
 def any_row(chance, count):
@@ -73,6 +79,31 @@ def any_straight_program(chance, most=12):
         if chance.random() < 0.2:
             rows[number] = chance.choice((("copy", "x", 1), ("op", "y", "+", "x", "a"), ("hear", "x"), ("say", "y")))
     return program_of(*rows, ("end", chance.choice(("x", 0))))
+
+
+def any_looping_program(chance, most=8):
+    """Any program that goes a few times through up to so many rows, which use cells, shelves and letters, and ends."""
+    count = chance.randint(1, most)
+    rows = [("copy", "times", chance.randint(1, 5))]
+    for number in range(1, count + 1):
+        box, other = chance.choice("xy"), chance.choice("xya")
+        rows.append(chance.choice((any_use(chance),) * 6 + (
+            ("if", box, chance.randint(number + 1, count + 1)), ("op", box, chance.choice(SIGNS), other, "x"),
+            ("op", box, "+", other, 3), ("hear", box), ("say", other))))
+    rows += [("op", "times", "-", "times", 1), ("if", "times", chance.randint(1, count)), ("end", chance.choice("xya"))]
+    return program_of(*rows)
+
+
+def any_twins(chance, program):
+    """The program with any of its cells and shelves as twins."""
+    share = chance.random()
+    cells, shelves = (tuple((*head[:2], chance.random() < share) for head in heads) for heads in program[:2])
+    return (cells, shelves, program[2])
+
+
+def any_letters(chance, most=8):
+    """Any letters that come in, up to so many."""
+    return [chance.choice((0, 1, 2, 5, chance.randrange(WIDE))) for letter in range(chance.randint(0, most))]
 
 
 def told(row):
@@ -257,3 +288,25 @@ def piece_ways(program, code):
         way = left.pop()
         yield way
         left.extend(way + [there] for there in led(way[-1], program[2][way[-1]]) if there not in kept)
+
+
+def stepped(house, steps=1):
+    """The house, behind so many steps."""
+    for step in range(steps):
+        house.step()
+    return house
+
+
+def stays(house, program):
+    """All that a house tells of what a failing does not change."""
+    cells = {name: house.cell(name) for name, start, twin in program[0]}
+    shelves = {name: house.shelf(name) for name, size, twin in program[1]}
+    return (cells, shelves, house.face(), house.page(0), house.page(1), house.rests(), house.answer(), house.letters(),
+            house.torn())
+
+
+def shown(house, program):
+    """All that a house tells."""
+    names = {name for row in program[2] for name in row if isinstance(name, str)} | {"zz"}
+    boxes = {name: house.box(name) for name in sorted(names)}
+    return stays(house, program), house.stands(), house.count(), boxes
